@@ -1,0 +1,1 @@
+"""Units that do the same, and papers that show it."""
