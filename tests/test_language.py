@@ -208,8 +208,14 @@ FUNCTIONS = {
         "is_rows(thing, width, p)", "reduced(rows, p)", "follows(rows, row, p)", "product_of(row, other, p)",
         "nulls_of(rows, width, p)", "common(one, other, width, p)", "without(rows, columns, width, p)",
         "led_back(row, table, p)"],
+    "flowruns": [
+        "events_of(flow, letters, *, most=400)", "state_of(flow, letters, *, most=400)", "led_on(flow, number)"],
+    "writtentexts": ["written_text(unit)", "read_written(text)"],
 }
-CLASSES = {}
+CLASSES = {
+    ("flows", "Flow"): ("places, steps, *, prime=97", "places steps prime deeds __eq__ __len__".split()),
+    ("written", "Written"): ("hidden, deeds, *, prime=97", "hidden deeds prime asks __eq__".split()),
+}
 
 
 class Interface(unittest.TestCase):
