@@ -1,7 +1,7 @@
 """Written units: deeds of rows within rows."""
 
 from onetrace.errors import NoUnit
-from onetrace.forms import is_form, is_form_over
+from onetrace.forms import is_form_over
 from onetrace.numbers import PRIME, are_unlike, are_ways, is_name, is_prime, is_tuple
 
 MOST_HIDDEN = 3
@@ -66,7 +66,7 @@ def is_deed(thing, hidden, p):
     if not is_tuple(thing, 3, 3):
         return False
     name, params, rows = thing
-    if not is_name(name) or not are_names(params, MOST_PARAMS) or not are_rows(rows, p, 0):
+    if not is_name(name) or not are_names(params, MOST_PARAMS) or not are_rows(rows, 0):
         return False
     if any([param in hidden for param in params]) or len(all_rows(rows)) > MOST_ROWS:
         return False
@@ -76,60 +76,38 @@ def is_deed(thing, hidden, p):
         is_form_over(form, known, p) for row in all_rows(rows) for form in forms_in(row)])
 
 
-def are_rows(thing, p, around):
-    """Whether a thing is a tuple of rows, with so many picks, loops and asks around them."""
-    return isinstance(thing, tuple) and all([is_row(row, p, around) for row in thing])
+def are_rows(thing, around):
+    """Whether a thing is a tuple of rows, their forms aside, with so many picks, loops and asks around them."""
+    return isinstance(thing, tuple) and all([is_row(row, around) for row in thing])
 
 
-def is_row(thing, p, around):
-    """Whether a thing is a row, whatever names there are."""
+def is_row(thing, around):
+    """Whether a thing is a row, its forms aside: these can be looked at when all names are known."""
     if not is_tuple(thing, 2, 6) or not isinstance(thing[0], str) or SIZES.get(thing[0], 0) != len(thing):
         return False
-    stands = STANDS[thing[0]]
-    return stands(thing, p, around)
+    if thing[0] in ("pick", "loop"):
+        return ways_stand(thing, around)
+    if thing[0] == "ask":
+        return ask_stands(thing, around)
+    return thing[0] in ("out", "return") or is_name(thing[1])
 
 
-def let_stands(row, p, around):
-    """Whether the things of a let are right."""
-    return is_name(row[1]) and is_form(row[2], p)
+def ways_stand(row, around):
+    """Whether the ways of a pick or loop are right, and the word that a loop ends with."""
+    # how deep it is comes first: what is within may lie deeper than can be followed
+    if around == MOST_WITHIN or not are_ways(row[1], MOST_WAYS, 2):
+        return False
+    if row[0] == "loop" and (not is_name(row[2]) or row[2] in [word for word, _ in row[1]]):
+        return False
+    return all([are_rows(rows, around + 1) for _, rows in row[1]])
 
 
-def name_stands(row, p, around):
-    """Whether the name of a take or fail is right."""
-    return is_name(row[1])
-
-
-def form_stands(row, p, around):
-    """Whether the form of an out or return is right."""
-    return is_form(row[1], p)
-
-
-def pick_stands(row, p, around):
-    """Whether the ways of a pick or loop are right."""
-    # the depth is looked at ahead of what is within, which may lie deeper than can be followed
-    return around < MOST_WITHIN and are_ways(row[1], MOST_WAYS, 2) and all([
-        are_rows(rows, p, around + 1) for _, rows in row[1]])
-
-
-def loop_stands(row, p, around):
-    """Whether the things of a loop are right."""
-    return pick_stands(row, p, around) and is_name(row[2]) and row[2] not in [word for word, _ in row[1]]
-
-
-def ask_stands(row, p, around):
+def ask_stands(row, around):
     """Whether the things of an ask are right."""
     _, x, unit, deed, forms, rows = row
-    if not is_name(x) or not is_name(unit) or not is_name(deed) or not is_tuple(forms, 0, MOST_FORMS):
+    if not all([is_name(name) for name in (x, unit, deed)]) or not is_tuple(forms, 0, MOST_FORMS):
         return False
-    if not all([is_form(form, p) for form in forms]):
-        return False
-    return rows == () or (around < MOST_WITHIN and are_rows(rows, p, around + 1))
-
-
-STANDS = {
-    "let": let_stands, "take": name_stands, "out": form_stands, "pick": pick_stands, "loop": loop_stands,
-    "ask": ask_stands, "return": form_stands, "fail": name_stands,
-}
+    return rows == () or (around < MOST_WITHIN and are_rows(rows, around + 1))
 
 
 def rows_within(row):

@@ -82,10 +82,10 @@ def things_told(words, shape, p):
         return None
     things = []
     for word, sign in zip(words, shape):
-        form = read_form(word, p) if sign == "f" else None
-        if form is None and (sign == "f" or not is_name(word)):
+        thing = read_form(word, p) if sign == "f" else word
+        if thing is None or (sign == "n" and not is_name(word)):
             return None
-        things.append(word if sign == "n" else form)
+        things.append(thing)
     return tuple(things)
 
 

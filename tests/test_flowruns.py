@@ -275,6 +275,11 @@ class Refused(unittest.TestCase):
             with self.assertRaises(TooLong):
                 function(flow, [("go", ())] * 201)
             function(flow, [("go", ())] * 201, most=402)
+        flow = Flow((), (("serve", (("go", (), 1),)), ("take", "", 1)))
+        self.assertEqual(len(events_of(flow, [("go", ())] + [0] * 399)[0]), 400)
+        for function in (events_of, state_of):
+            with self.assertRaises(TooLong):
+                function(flow, [("go", ())] + [0] * 400)
 
     def test_whichever_comes_first(self):
         # two events by the first letter, none of them too many: the second letter is looked at

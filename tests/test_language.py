@@ -23,6 +23,9 @@ BARRED = (
     "register mro elements open input law version_info with_traceback add_note type typing enum Enum Flag Generic "
     "Protocol ABC namedtuple dataclass overload _cold _tuplegetter _outside _record _written_out "
     "_member_names").split()
+STRING_BARRED = (
+    "type typing typing_extensions enum Enum IntEnum StrEnum Flag IntFlag Generic Protocol ABC ABCMeta namedtuple "
+    "NamedTuple TypedDict TYPE_CHECKING abstractmethod dataclass overload contextmanager").split()
 STATEMENTS = (
     ast.FunctionDef, ast.ClassDef, ast.Return, ast.Assign, ast.AugAssign, ast.For, ast.While, ast.If, ast.Raise,
     ast.ImportFrom, ast.Expr, ast.Pass, ast.Break, ast.Continue, ast.Delete, ast.Try)
@@ -182,9 +185,16 @@ class Rules(unittest.TestCase):
                                          and word not in DUNDERS, (name, word))
 
     def test_no_barred_words(self):
+        for name, tree in trees():
+            for node in ast.walk(tree):
+                for field in ("id", "attr", "arg", "name"):
+                    word = getattr(node, field, None) or ""
+                    self.assertNotIn(word, BARRED, name)
+                    self.assertFalse(word.startswith(("_wall", "_law_", "_WallAttr", "_pe_", "_lay_")), name)
         for path in files():
-            for word in re.findall(r"[A-Za-z_]+", path.read_text()):
-                self.assertFalse(word.startswith(("_wall", "_law_", "_WallAttr")), path.name)
+            code = re.sub('""".*?"""|#.*', "", path.read_text())
+            for word in re.findall(r"[A-Za-z_]+", code):
+                self.assertNotIn(word, STRING_BARRED, path.name)
 
 
 def shape(function):
