@@ -66,6 +66,18 @@ class Talk:
         return letter
 
 
+def go_on(run):
+    """The step at which a run waits, when it has gone on as far as its letters lead it."""
+    while True:
+        step = run.step()
+        if step[0] == "ask":
+            # what is asked is told as it comes there, ahead of the answer
+            run.talk.tell(run.asked(step))
+        if step[0] in DUES and run.talk.is_over():
+            return step
+        run.act(step)
+
+
 class FlowRun:
     """A flow on its way: the number of the step where it stands, and what its places hold."""
 
@@ -74,6 +86,8 @@ class FlowRun:
         self.talk = Talk(letters, most, flow.prime())
         self.number = 0
         self.held = {place: 0 for place in flow.places()}
+        # the stopping steps that it has left behind the last letter, and what the places held there
+        self.passed = []
 
     def step(self):
         """The step where it stands."""
@@ -88,17 +102,18 @@ class FlowRun:
         if place != "":
             self.held[place] = n
 
-    def go(self):
-        """It goes on as far as its letters lead it."""
-        while True:
-            step = self.step()
-            if step[0] == "ask":
-                # what is asked is told as it comes there, ahead of the answer
-                self.talk.tell(("ask", step[1], step[2], tuple([self.worth(form) for form in step[3]])))
-            if step[0] in DUES and self.talk.is_over():
-                return
-            action = ACTIONS[step[0]]
-            action(self, step)
+    def asked(self, step):
+        """The event of an ask."""
+        return ("ask", step[1], step[2], tuple([self.worth(form) for form in step[3]]))
+
+    def act(self, step):
+        """The step is done."""
+        if step[0] in DUES:
+            self.passed = []
+        elif step[0] != "move":
+            self.passed.append((self.number, dict(self.held)))
+        action = ACTIONS[step[0]]
+        action(self, step)
 
 
 def serve(run, step):
@@ -163,8 +178,8 @@ def fail(run, step):
 ACTIONS = {
     "serve": serve, "move": move, "pick": pick, "take": take, "out": out, "ask": ask, "done": done, "fail": fail,
 }
-# the steps that wait for a letter, and what is due there
-DUES = {"serve": ("call",), "pick": ("pick",), "take": ("take",), "ask": ("ask",)}
+# what waits for a letter, and what is due there; a loop is a written unit's
+DUES = {"serve": ("call",), "pick": ("pick",), "loop": ("pick",), "take": ("take",), "ask": ("ask",)}
 
 
 def due_at(step):
@@ -177,8 +192,14 @@ def due_at(step):
 def run_of(flow, letters, most):
     """The run of a flow behind letters."""
     run = FlowRun(flow, letters, most)
-    run.go()
+    go_on(run)
     return run
+
+
+def stops_behind(flow, letters, most):
+    """The list of the stopping steps come by behind the last letter, in order, and what all places hold there."""
+    run = run_of(flow, letters, most)
+    return run.passed + [(run.number, run.held)]
 
 
 def events_of(flow, letters, *, most=MOST_EVENTS):

@@ -3,8 +3,9 @@
 import copy
 import unittest
 
-from onetrace.errors import NoFlow, NoLetter, TooLong
-from onetrace.flowruns import events_of, led_on, state_of
+from flowmade import plain_run, some_flow, some_letters
+from onetrace.errors import NoLetter, TooLong
+from onetrace.flowruns import events_of, led_on, state_of, stops_behind
 from onetrace.flows import Flow
 from onetrace.forms import worth_of
 from things import THINGS, kept, same, some
@@ -41,125 +42,6 @@ RUN = [
     ("right", [("pick", "right"), ("done", 5)], ("call",), 0, {"y": 5, "x": 1}),
 ]
 LETTERS = [row[0] for row in RUN]
-
-
-def plain_run(flow, letters, most):
-    """The same by another way: ("run", events, due, number, dict), ("letter", at) or ("long",)."""
-    events, number, held, left = [], 0, dict.fromkeys(flow.places(), 0), list(letters)
-    p = flow.prime()
-
-    def now(form):
-        return (form[0] + sum(k * held[place] for place, k in form[1])) % p
-
-    while True:
-        kind, *things = flow.steps()[number]
-        if kind == "ask":
-            events.append(("ask", things[0], things[1], tuple(now(form) for form in things[2])))
-        if len(events) > most:
-            return ("long",)
-        if kind in ("serve", "pick", "take", "ask"):
-            due = {"serve": ("call",), "take": ("take",), "ask": ("ask",)}.get(kind)
-            due = due or ("pick", tuple(word for word, _ in things[0]))
-            if not left:
-                return "run", events, due, number, held
-            letter, at = left.pop(0), len(letters) - len(left) - 1
-            is_number = type(letter) is int and 0 <= letter < p
-            puts = {}
-            if kind == "serve":
-                ways = {(deed, len(params)): (params, to) for deed, params, to in things[0]}
-                if (type(letter) is not tuple or len(letter) != 2 or type(letter[0]) is not str
-                        or type(letter[1]) is not tuple or (letter[0], len(letter[1])) not in ways
-                        or any(type(n) is not int or not 0 <= n < p for n in letter[1])):
-                    return "letter", at
-                params, number = ways[letter[0], len(letter[1])]
-                puts = dict(zip(params, letter[1]))
-                events.append(("call", *letter))
-            elif kind == "pick":
-                if type(letter) is not str or letter not in due[1]:
-                    return "letter", at
-                number = dict(things[0])[letter]
-                events.append(("pick", letter))
-            elif kind == "ask" and letter == "!":
-                number = things[5]
-                events.append(("fault",))
-            elif not is_number:
-                return "letter", at
-            else:
-                puts = {things[3 if kind == "ask" else 0]: letter}
-                number = things[4 if kind == "ask" else 1]
-                events.append(("answer" if kind == "ask" else "take", letter))
-            puts.pop("", None)
-            held.update(puts)
-        elif kind == "move":
-            held.update([(place, now(form)) for place, form in things[0]])
-            number = things[1]
-        elif kind == "out":
-            events.append(("out", now(things[0])))
-            number = things[1]
-        else:
-            events.append((kind, now(things[0]) if kind == "done" else things[0]))
-            number = 0
-        if len(events) > most:
-            return ("long",)
-
-
-def some_form(chance, places, p):
-    terms = sorted(chance.sample(places, chance.randint(0, len(places))))
-    return chance.randrange(p), tuple((place, chance.randrange(1, p)) for place in terms)
-
-
-def some_step(chance, places, p, many):
-    def to():
-        return chance.randrange(1, many)
-
-    def goal():
-        return chance.choice([*places, ""])
-
-    kind = chance.choice(("move", "move", "pick", "take", "out", "ask", "done", "fail"))
-    if kind == "move":
-        picked = chance.sample(places, chance.randint(0, len(places)))
-        return kind, tuple((place, some_form(chance, places, p)) for place in picked), to()
-    if kind == "pick":
-        return kind, tuple((word, to()) for word in sorted(chance.sample(["go", "on", "up"], chance.randint(1, 3))))
-    if kind == "take":
-        return kind, goal(), to()
-    if kind == "out":
-        return kind, some_form(chance, places, p), to()
-    if kind == "ask":
-        forms = tuple(some_form(chance, places, p) for _ in range(chance.randint(0, 3)))
-        return kind, chance.choice(("lib", "box")), chance.choice(("get", "put")), forms, goal(), to(), to()
-    return (kind, some_form(chance, places, p)) if kind == "done" else (kind, "lost")
-
-
-def some_flow(chance):
-    while True:
-        p = chance.choice((2, 3, 97))
-        places = chance.sample(["x", "y", "a.b"], chance.randint(0, 3))
-        many = chance.randint(2, 9)
-        ways = tuple(
-            (deed, tuple(chance.sample(places, chance.randint(0, len(places)))) or ("",) * chance.randint(0, 3),
-             chance.randrange(1, many)) for deed in sorted(chance.sample(["add", "get", "put"], chance.randint(1, 3))))
-        steps = (("serve", ways), *(some_step(chance, places, p, many) for _ in range(many - 1)))
-        try:
-            return Flow(tuple(places), steps, prime=p)
-        except NoFlow:
-            continue
-
-
-def some_letters(chance, flow, many):
-    """Letters that are due, one behind another."""
-    letters = []
-    p = flow.prime()
-    for _ in range(many):
-        due = plain_run(flow, letters, 10 ** 6)[2]
-        if due == ("call",):
-            deed, numbers = chance.choice(flow.deeds())
-            letters.append((deed, tuple(chance.randrange(p) for _ in range(numbers))))
-        elif due[0] == "pick":
-            letters.append(chance.choice(due[1]))
-        else:
-            letters.append("!" if due == ("ask",) and chance.random() < 0.3 else chance.randrange(p))
-    return letters
 
 
 class Told(unittest.TestCase):
@@ -299,6 +181,24 @@ class Refused(unittest.TestCase):
         self.no_letter(3, WHOLE, letters)
         self.too_long(WHOLE, letters, 1)
         self.assertTrue(same(letters, ahead))
+
+
+class Stops(unittest.TestCase):
+    def test_each_beginning(self):
+        stops = [
+            [(0, (0, 0))], [(2, (3, 7)), (3, (3, 7))], [(4, (96, 7))], [(4, (96, 7))], [(5, (96, 7))],
+            [(7, (96, 50)), (0, (96, 50))], [(7, (96, 50)), (0, (96, 50))], [(7, (96, 2)), (0, (96, 2))],
+        ]
+        for many, right in enumerate(stops):
+            found = kept(stops_behind, WHOLE, LETTERS[:many], 400)
+            self.assertEqual([(number, tuple(held.values())) for number, held in found], right)
+            self.assertEqual(found[-1], state_of(WHOLE, LETTERS[:many]))
+
+    def test_refused(self):
+        with self.assertRaises(NoLetter):
+            stops_behind(WHOLE, ["no"], 400)
+        with self.assertRaises(TooLong):
+            stops_behind(WHOLE, LETTERS, 5)
 
 
 class Any(unittest.TestCase):
