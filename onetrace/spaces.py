@@ -97,3 +97,26 @@ def without(rows, columns, width, p):
 def led_back(row, table, p):
     """The sum of each of the rows of a table times the row's number."""
     return tuple([sum([n * m for n, m in zip(row, column)]) % p for column in zip(*table)])
+
+
+def terms_of(row):
+    """The dict from columns to numbers of a row, noughts left out."""
+    return {column: n for column, n in enumerate(row) if n != 0}
+
+
+def row_of(terms, width):
+    """The row of that width with these numbers, and noughts elsewhere."""
+    return tuple([terms.get(column, 0) for column in range(width)])
+
+
+def less_terms(terms, other, k, p):
+    """The terms of a row less k times another one."""
+    found = dict(terms)
+    for column, n in other.items():
+        found[column] = (found.get(column, 0) - k * n) % p
+    return {column: n for column, n in found.items() if n != 0}
+
+
+def terms_product(terms, row, p):
+    """The product of a row told by its terms with another row."""
+    return sum([n * row[column] for column, n in terms.items()]) % p

@@ -184,6 +184,20 @@ class Rules(unittest.TestCase):
                         self.assertFalse(any(hasattr(kind, word) for kind in (str, int, list, dict, set, bytes, tuple))
                                          and word not in DUNDERS, (name, word))
 
+    def test_no_method_is_an_attribute_elsewhere(self):
+        methods, stored = {}, set()
+        for name, tree in trees():
+            for node in ast.walk(tree):
+                if isinstance(node, ast.Attribute) and isinstance(node.ctx, ast.Store):
+                    stored.add(node.attr)
+                if isinstance(node, ast.ClassDef):
+                    for inner in node.body:
+                        if isinstance(inner, ast.FunctionDef) and inner.name not in DUNDERS:
+                            methods.setdefault(inner.name, set()).add(len(inner.args.args))
+        self.assertFalse(stored & set(methods))
+        # one of a name takes as much as another one, so that each call can be looked at
+        self.assertEqual({word for word, sizes in methods.items() if len(sizes) > 1}, set())
+
     def test_no_barred_words(self):
         for name, tree in trees():
             for node in ast.walk(tree):
@@ -221,10 +235,19 @@ FUNCTIONS = {
     "flowruns": [
         "events_of(flow, letters, *, most=400)", "state_of(flow, letters, *, most=400)", "led_on(flow, number)"],
     "writtentexts": ["written_text(unit)", "read_written(text)"],
+    "walking": ["walked(unit, letters, *, most=400)"],
+    "codetexts": ["coded_text(unit)", "read_coded(text)"],
+    "running": ["ran(unit, letters, *, most=400)"],
+    "leading": ["flow_of(unit)"],
+    "papers": ["is_paper(one, other, thing)"],
+    "finding": ["found(one, other)", "spans_of(one, other)", "is_span(one, other, paper, thing)"],
+    "small": ["small_of(flow)"],
+    "joins": ["same_paper(flow)", "turned_paper(one, other, paper)", "joined_paper(one, mid, other, first, second)"],
 }
 CLASSES = {
     ("flows", "Flow"): ("places, steps, *, prime=97", "places steps prime deeds __eq__ __len__".split()),
     ("written", "Written"): ("hidden, deeds, *, prime=97", "hidden deeds prime asks __eq__".split()),
+    ("coded", "Coded"): ("hidden, deeds, *, prime=97", "hidden deeds prime asks __eq__".split()),
 }
 
 

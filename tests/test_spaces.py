@@ -3,7 +3,8 @@
 import itertools
 import unittest
 
-from onetrace.spaces import common, follows, is_rows, led_back, nulls_of, product_of, reduced, without
+from onetrace.spaces import (
+    common, follows, is_rows, led_back, less_terms, nulls_of, product_of, reduced, row_of, terms_of, terms_product, without)
 from things import THINGS, WRONG, kept, some, spoiled
 
 
@@ -228,3 +229,18 @@ class Spaces(unittest.TestCase):
             other = some_rows(chance, 1, 3, p)[0]
             put = tuple(product_of(line, other, p) for line in table)
             self.assertEqual(product_of(led_back(row, table, p), other, p), product_of(row, put, p))
+
+
+class Terms(unittest.TestCase):
+    def test_as_rows(self):
+        chance = some(12)
+        for _ in range(100):
+            p = chance.choice((2, 97, 997))
+            row, other = some_rows(chance, 2, 6, p)
+            k = chance.randrange(p)
+            self.assertEqual(row_of(kept(terms_of, row), 6), row)
+            self.assertNotIn(0, terms_of(row).values())
+            less = kept(less_terms, terms_of(row), terms_of(other), k, p)
+            self.assertEqual(less, terms_of([(n - k * m) % p for n, m in zip(row, other)]))
+            self.assertEqual(kept(terms_product, terms_of(row), other, p), product_of(row, other, p))
+        self.assertEqual(row_of({}, 3), (0, 0, 0))
