@@ -3,12 +3,15 @@
 from onetrace.spaces import common, row_of, without
 
 
+def alike_rows(first, other, many, width, p):
+    """The rows of that width which say that so many columns from first on hold what those from other on do."""
+    return tuple([row_of({first + at: 1, other + at: p - 1}, width) for at in range(many)])
+
+
 def same_paper(flow):
     """A paper of a flow and itself."""
     many = len(flow.places())
-    width = 1 + 2 * many
-    p = flow.prime()
-    rows = tuple([row_of({at: 1, at + many: p - 1}, width) for at in range(1, many + 1)])
+    rows = alike_rows(1, 1 + many, many, 1 + 2 * many, flow.prime())
     return {(number, number): rows for number, step in enumerate(flow.steps()) if step[0] != "move"}
 
 

@@ -225,3 +225,60 @@ def answer_of(function, errors, *things, **named):
         return "letter", caught.at
     except too_long:
         return ("long",)
+
+
+class Keeper:
+    """A flow that keeps what it holds, and others of its own that do what it asks of some units."""
+
+    def __init__(self, flow, inner=None):
+        self.flow = flow
+        self.inner = inner or {}
+        self.held = dict.fromkeys(flow.places(), 0)
+        self.calls = 0
+
+    def worth(self, form):
+        return (form[0] + sum(k * self.held[place] for place, k in form[1])) % self.flow.prime()
+
+    def put(self, pairs):
+        self.held.update((place, n) for place, n in pairs if place != "")
+
+    def asked(self, unit, deed, numbers, talk):
+        if unit in self.inner:
+            word, n = self.inner[unit].call(deed, numbers, talk)
+            return n if word == "done" else "!"
+        talk.tell("ask", unit, deed, numbers)
+        return talk.answer()
+
+    def call(self, deed, numbers, talk):
+        """How a call ends: ("done", n) or ("fail", word)."""
+        self.calls += 1
+        [(params, number)] = [(params, to) for name, params, to in self.flow.steps()[0][1] if name == deed]
+        assert len(params) == len(numbers)
+        self.put(zip(params, numbers))
+        while True:
+            kind, *things = self.flow.steps()[number]
+            if kind == "move":
+                self.put([(place, self.worth(form)) for place, form in things[0]])
+                number = things[1]
+            elif kind == "pick":
+                number = dict(things[0])[talk.word(dict(things[0]))]
+            elif kind == "take":
+                self.put([(things[0], talk.take())])
+                number = things[1]
+            elif kind == "out":
+                talk.tell("out", self.worth(things[0]))
+                number = things[1]
+            elif kind == "ask":
+                answer = self.asked(things[0], things[1], tuple(map(self.worth, things[2])), talk)
+                number = things[5 if answer == "!" else 4]
+                self.put([(things[3], answer)] if answer != "!" else [])
+            else:
+                return kind, self.worth(things[0]) if kind == "done" else things[0]
+
+
+def plain_kept(make, letters, most=10 ** 9):
+    """What a flow tells with others beside it; make makes it anew."""
+    keeper = make()
+    talk = Plain(letters, most, keeper.flow.prime())
+    deeds = dict(keeper.flow.deeds())
+    return talk.told(lambda: talk.tell(*keeper.call(*talk.call(deeds)[0:2], talk)))

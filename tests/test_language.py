@@ -243,6 +243,12 @@ FUNCTIONS = {
     "finding": ["found(one, other)", "spans_of(one, other)", "is_span(one, other, paper, thing)"],
     "small": ["small_of(flow)"],
     "joins": ["same_paper(flow)", "turned_paper(one, other, paper)", "joined_paper(one, mid, other, first, second)"],
+    "linking": [
+        "linked(flow, unit, other)", "led_paper(flow, unit, lib, new, paper)", "asker_paper(one, other, paper, unit, lib)",
+        "client_of(unit, letters, *, prime=97)"],
+    "compiling": ["compiled(unit, *, style='plain')"],
+    "passes": ["passed(unit, word)"],
+    "rewriting": ["rewrites_of(unit)", "rewritten(unit, rewrite)"],
 }
 CLASSES = {
     ("flows", "Flow"): ("places, steps, *, prime=97", "places steps prime deeds __eq__ __len__".split()),

@@ -77,3 +77,50 @@ def some_unit(chance):
             return Written(hidden, tuple(deeds), prime=p)
         except NoUnit:
             continue
+
+
+def some_long_rows(chance, names, p, around, left):
+    """Rows of which most are done, in all at most as many as left has; left is what then may come."""
+    rows = []
+    for _ in range(chance.randint(1, 5)):
+        if left[0] == 0:
+            break
+        left[0] -= 1
+        kind = chance.choice(("let", "let", "take", "out", "ask", "pick", "loop", "fault", "end"))
+        name = chance.choice(names)
+        if kind in ("pick", "loop", "fault") and around == 3:
+            kind = "let"
+        if kind in ("pick", "loop"):
+            words = sorted(chance.sample(["go", "left", "on", "pick", "up"], chance.randint(1, 4)))
+            ways = tuple((word, some_long_rows(chance, names, p, around + 1, left)) for word in words)
+            rows.append((kind, ways) if kind == "pick" else (kind, ways, chance.choice(["end", "stop", "way"])))
+        elif kind in ("ask", "fault"):
+            inner = some_long_rows(chance, names, p, around + 1, left) if kind == "fault" else ()
+            deed = chance.choice(["end", "get", "put"])
+            forms = tuple(some_form(chance, names, p) for _ in range(["end", "get", "put"].index(deed) + 1))
+            rows.append(("ask", name, "lib", deed, forms, inner))
+        elif kind == "end":
+            if chance.random() < 0.3:
+                rows.append(chance.choice([("return", some_form(chance, names, p)), ("fail", "lost")]))
+        elif kind == "take":
+            rows.append((kind, name))
+        else:
+            form = chance.choice([some_form(chance, names, p), (0, ((chance.choice(names), 1),)), (chance.randrange(p), ())])
+            rows.append((kind, name, form) if kind == "let" else (kind, form))
+    return tuple(rows)
+
+
+def some_long_unit(chance, p=None, deeds=None):
+    """A unit that comes by chance, most of whose rows are done."""
+    while True:
+        prime = p or chance.choice((2, 3, 97, 997))
+        hidden = tuple(chance.sample(["x", "y", "deed"], chance.randint(0, 3)))
+        variables = chance.sample(["a", "b", "let", "prime"], 4)
+        told = []
+        for name, many in deeds or [(name, chance.randint(0, 3)) for name in chance.sample(["end", "add", "main"], chance.randint(1, 3))]:
+            rows = some_long_rows(chance, [*hidden, *variables], prime, 0, [chance.randint(1, 16)])
+            told.append((name, tuple(variables[:many]), rows))
+        try:
+            return Written(hidden, tuple(told), prime=prime)
+        except NoUnit:
+            continue
