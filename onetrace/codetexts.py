@@ -71,7 +71,7 @@ class CodeReader:
         """Whether the text may end here."""
         return self.cells is not None and not self.within
 
-    def unit(self):
+    def unit_told(self):
         """The unit that was read."""
         deeds = [head + (tuple(code),) for head, code in zip(self.heads, self.codes)]
         return Coded(self.cells, tuple(deeds), prime=self.p)
@@ -125,4 +125,4 @@ def read_coded(text):
             raise NoText(at)
     if not is_whole or not reader.rests():
         raise NoText(len(rows))
-    return reader.unit()
+    return reader.unit_told()

@@ -71,17 +71,17 @@ class RowsLead:
     def __init__(self, making, names, spots, p):
         self.making = making
         # the places of the variables of the deed, and all places that aren't kept
-        self.names = names
+        self.place_by = names
         self.spots = spots
         self.p = p
 
     def place_of(self, name):
         """The place of a hidden name or a variable."""
-        return self.names.get(name, name)
+        return self.place_by.get(name, name)
 
     def form_of(self, form):
         """The form over places that is worth what this one is over names."""
-        return put_in(form, {name: place_form(place) for name, place in self.names.items()}, self.p)
+        return put_in(form, {name: place_form(place) for name, place in self.place_by.items()}, self.p)
 
     def rows_from(self, rows, to):
         """The number of the first step of rows, behind which it goes on at to."""

@@ -163,7 +163,7 @@ class Small:
     """The small form as it is made: of each mark a step, and the moves ahead of it."""
 
     def __init__(self, whole, marks):
-        self.whole = whole
+        self.stops = whole
         self.marks = marks
         self.groups = groups_of(marks)
         self.sights = sights_of(whole, marks)
@@ -181,7 +181,7 @@ class Small:
 
     def ways_of(self, mark):
         """The ways of the first step of a mark; those of the others lead to steps of the same marks."""
-        return self.whole.ways_by[self.groups[mark][0]]
+        return self.stops.ways_by[self.groups[mark][0]]
 
     def is_last(self, mark):
         """Whether steps of a mark end a call."""
@@ -189,10 +189,10 @@ class Small:
 
     def end_sight(self, stops):
         """The sight of steps that end a call: no move is behind them, so they keep all that is kept behind them."""
-        sight = self.whole.sight(stops)
+        sight = self.stops.sight(stops)
         for view in list(self.sights[self.marks[0]].views):
             sight.holds({stop: view[0] for stop in stops})
-        sight.sees(self.whole.views_told(stops))
+        sight.sees(self.stops.views_told(stops))
         return sight
 
     def marks_in_order(self):
@@ -215,17 +215,17 @@ class Small:
         parts = self.sights[mark].parts_of(view)[1]
         n = sum([k * self.shift(mark, at - 1) for at, k in parts.items() if at != 0])
         pairs = [(kept_place(at - 1), k) for at, k in parts.items() if at != 0]
-        return new_form(parts.get(0, 0) + n, pairs, self.whole.p)
+        return new_form(parts.get(0, 0) + n, pairs, self.stops.p)
 
     def form_behind(self, mark, at, number):
         """The form that is worth what a place is to hold behind a way of the step of a mark."""
         way = self.ways_of(mark)[at]
         goal = self.marks[way.goal]
         view = self.sights[goal].views[number]
-        n, terms = self.form_at(mark, self.whole.led_view(self.groups[mark], at, view))
-        led = led_terms(view[way.goal], way.lead, self.whole.p)
-        come = [(came_place(one), led.get(self.whole.width + one, 0)) for one in range(way.many)]
-        return new_form(n - self.shift(goal, number), list(terms) + come, self.whole.p)
+        n, terms = self.form_at(mark, self.stops.led_view(self.groups[mark], at, view))
+        led = led_terms(view[way.goal], way.lead, self.stops.p)
+        come = [(came_place(one), led.get(self.stops.width + one, 0)) for one in range(way.many)]
+        return new_form(n - self.shift(goal, number), list(terms) + come, self.stops.p)
 
     def step_behind(self, mark, at):
         """The places to which the numbers are put that come by a way, and the step to which it leads then."""
@@ -234,7 +234,7 @@ class Small:
         forms = [self.form_behind(mark, at, number) for number in range(len(self.sights[goal].views))]
         params = params_of(way.many, forms, self.spots)
         puts = {came_place(one): place_form(param) for one, param in enumerate(params) if param != ""}
-        moved = [(kept_place(number), put_in(form, puts, self.whole.p)) for number, form in enumerate(forms)]
+        moved = [(kept_place(number), put_in(form, puts, self.stops.p)) for number, form in enumerate(forms)]
         pairs = tuple([(place, form) for place, form in moved if form != place_form(place)])
         self.came.update({came_place(one): True for one in range(way.many) if params[one] == came_place(one)})
         to = self.order.index(goal)
@@ -244,8 +244,8 @@ class Small:
 
     def step_of(self, mark):
         """The stopping step of a mark."""
-        shape = self.whole.side.shape(self.groups[mark][0])
-        told = tuple([self.form_at(mark, view) for view in self.whole.views_told(self.groups[mark])])
+        shape = self.stops.side.shape(self.groups[mark][0])
+        told = tuple([self.form_at(mark, view) for view in self.stops.views_told(self.groups[mark])])
         if self.is_last(mark):
             return shape + told
         ways = self.ways_of(mark)
@@ -262,7 +262,7 @@ class Small:
     def flow_made(self):
         """The flow of all steps."""
         steps = [self.step_of(mark) for mark in self.order] + list(self.moves)
-        return Flow(tuple(self.spots + sorted(self.came)), tuple(steps), prime=self.whole.p)
+        return Flow(tuple(self.spots + sorted(self.came)), tuple(steps), prime=self.stops.p)
 
 
 def params_of(many, forms, spots):

@@ -112,19 +112,19 @@ class Reader:
 
     def __init__(self):
         self.p = 0
-        self.names = None
+        self.hidden_names = None
         self.heads = []
         self.bodies = []
         self.begun = []
 
     def rests(self):
         """Whether the text may end here."""
-        return self.names is not None and not self.begun
+        return self.hidden_names is not None and not self.begun
 
-    def unit(self):
+    def unit_told(self):
         """The unit that was read."""
         deeds = [(head[0], head[1:], tuple(rows)) for head, rows in zip(self.heads, self.bodies)]
-        return Written(self.names, tuple(deeds), prime=self.p)
+        return Written(self.hidden_names, tuple(deeds), prime=self.p)
 
     def reads(self, row):
         """Whether a row can stand here; then it is read."""
@@ -141,10 +141,10 @@ class Reader:
             self.p = prime_told(words)
             return self.p != 0
         names = things_told(words[1:], "n" * (len(words) - 1), self.p)
-        if names is None or words[0] != ("hidden" if self.names is None else "deed"):
+        if names is None or words[0] != ("hidden" if self.hidden_names is None else "deed"):
             return False
-        if self.names is None:
-            self.names = names
+        if self.hidden_names is None:
+            self.hidden_names = names
             return True
         return len(names) > 0 and self.begins_deed(names)
 
@@ -217,4 +217,4 @@ def read_written(text):
             raise NoText(at)
     if not is_whole or not reader.rests():
         raise NoText(len(rows))
-    return reader.unit()
+    return reader.unit_told()
