@@ -58,7 +58,8 @@ def names_within(units, name):
     known = {name: True}
     waiting = [name]
     while waiting:
-        for asked in asked_by(units[waiting.pop()]):
+        asker = waiting.pop()
+        for asked in asked_by(units[asker]):
             if asked not in known:
                 known[asked] = True
                 waiting.append(asked)

@@ -169,7 +169,8 @@ def states_in(code, many, p):
     arrives(states, 0, (None,) * many + (0,) * (len(REGISTERS) - many), waiting)
     while waiting:
         at = waiting.pop()
-        for to, state in led_from(code[at], at, states[at], p):
+        led = led_from(code[at], at, states[at], p)
+        for to, state in led:
             arrives(states, to, state, waiting)
     return states
 

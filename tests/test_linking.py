@@ -118,7 +118,7 @@ class Linked(unittest.TestCase):
     def test_chance(self):
         chance = some(100)
         asked = called = 0
-        for _ in range(300):
+        for _ in range(500):
             p = chance.choice((2, 3, 97))
             flow, other = some_asker(chance, p), some_kin(chance, primes=(p,))
             both = linked(flow, "lib", other)

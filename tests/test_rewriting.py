@@ -216,7 +216,7 @@ class Rewrites(unittest.TestCase):
     def test_one_behind_the_other(self):
         chance = some(131)
         longest = 0
-        for _ in range(60):
+        for _ in range(90):
             unit = first = some_long_unit(chance)
             many = 0
             while many < 6 and rewrites_of(unit):
