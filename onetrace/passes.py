@@ -230,8 +230,8 @@ def outcome(step, state, p):
 
 def folded(step, state, p):
     """What an instruction is where this is known, or None where it is left out."""
-    if step[0] not in PUTTING or changes_nothing(step, state):
-        return None if step[0] in PUTTING else step
+    if changes_nothing(step, state):
+        return None
     n = outcome(step, state, p)
     if n is None:
         return step

@@ -218,6 +218,23 @@ class Refusals(Checks):
         house.drop("lib")
         self.assertEqual(house.names(), ["zoo"])
 
+    def test_the_first_that_asks(self):
+        # rising by names, whichever came first
+        house = house_of(lib=LIB, zoo=MAIN, top=MAIN_CODE, main=MAIN)
+        self.refuses(Asked, house, ("drop", "lib"), "main")
+        house.drop("main")
+        self.refuses(Asked, house, ("drop", "lib"), "top")
+        house.put("top", LIB)
+        self.refuses(Asked, house, ("drop", "lib"), "zoo")
+
+    def test_deeds_in_any_order(self):
+        turned = Coded(LIB_CODE.hidden(), LIB_CODE.deeds()[::-1])
+        house = house_of(lib=LIB, box=LIB_CODE, zoo=turned, top=LIB_TWICE)
+        for one, other in (("lib", "zoo"), ("zoo", "box"), ("top", "zoo"), ("top", "lib")):
+            house.claim(one, other)
+        self.assertEqual([word for _, word, _ in house.put("box", turned)], ["stays", "led", "stays", "stays"])
+        self.assertEqual([word for _, word, _ in house.put("lib", turned)], ["led", "stays", "stays", "led"])
+
     def test_unlike(self):
         house = house_of(lib=LIB, box=LIB_TWO, zoo=LIB_LATE)
         self.refuses(Unlike, house, ("claim", "lib", "box"), [("one", ())])

@@ -93,6 +93,14 @@ class Linked(unittest.TestCase):
         # nothing is asked, so the other one's deeds don't matter
         self.assertEqual(found(LIB, linked(LIB, "main", MAIN))[0], "like")
 
+    def test_other_things_called_so(self):
+        # words, places and deeds that are called as the unit is
+        flow = Flow(("lib",), (
+            ("serve", (("lib", ("lib",), 1),)), ("take", "lib", 2), ("pick", (("go", 3), ("lib", 4))), ("fail", "lib"),
+            ("ask", "box", "lib", (), "lib", 5, 3), ("out", (0, (("lib", 1),)), 6), ("done", ONE)))
+        self.assertEqual(found(flow, linked(flow, "lib", LIB))[0], "like")
+        self.assertEqual(len(linked(flow, "lib", LIB)), len(flow))
+
     def test_of_itself(self):
         # what the copy asks of lib stays asked, and is done where it is linked again, under other places
         once = linked(LIB, "lib", LIB)
